@@ -1,0 +1,1 @@
+"""headsheard: count the houses of a nameless network that is new in each round."""
