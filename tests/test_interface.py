@@ -18,11 +18,32 @@ FUNCTIONS = {
     },
     "facts": {"facts_of": "(told)", "fits_facts": "(facts, counts)"},
     "datatext": {"data_text": "(data)", "read_data": "(text)"},
+    "sayings": {
+        "check_saying": "(words, saying)", "holds": "(saying, counts)", "saying_text": "(saying)",
+        "read_saying": "(words, text)", "both_sayings": "(one, other)",
+    },
+    "nets": {
+        "add_nets": "(one, other)", "scale_net": "(net, strength)", "renumber_net": "(net, places)",
+        "complete_net": "(houses, strength, *, echo=None)", "path_net": "(houses, strength, *, echo=None)",
+        "ring_net": "(houses, strength, *, echo=None)", "star_net": "(houses, centre, strength, *, echo=None)",
+    },
+    "joined": {
+        "pieces_of": "(net)", "is_joined": "(net)", "find_joining": "(net)", "joining_fault": "(net, steps)",
+        "cut_fault": "(net, houses)", "sources_of": "(nets, house)",
+    },
+    "netrows": {
+        "list_row": "(nets, *, ever=False)", "first_unlike": "(one, other)",
+        "stretch_net": "(net_row, number, size)", "first_apart": "(net_row, size=1)",
+    },
+    "rowtext": {"row_text": "(net_row)", "read_row": "(text)"},
 }
 CLASSES = {
     "facts": {"Facts": ("(most=None, lamps=1, words=1, hearing='sums', stretch=1)", {})},
+    "nets": {"Net": ("(houses, links)", {"heard_by": "(self, house)", "strength_of": "(self, one, other)"})},
+    "joined": {"Joining": ("(steps)", {}), "Cut": ("(houses)", {})},
+    "netrows": {"NetRow": ("(nets, plan)", {"net_at": "(self, number)", "nets_to": "(self, many)", "cycle": "(self)"})},
 }
-CONSTANTS = {"strengths": {"NONE": (0, 1)}}
+CONSTANTS = {"strengths": {"NONE": (0, 1)}, "sayings": {"HEADS": -1}, "nets": {"MOST_HOUSES": 12}}
 
 
 def module_of(name):
@@ -50,6 +71,9 @@ class InterfaceTest(unittest.TestCase):
                     self.assertIn("__eq__", vars(found))
                     for method, told in methods.items():
                         self.assertEqual(str(inspect.signature(vars(found)[method])), told)
+
+    def test_length_is_a_property_of_the_class_itself(self):
+        self.assertIsInstance(vars(module_of("netrows").NetRow)["length"], property)
 
     def test_constants(self):
         for module, constants in CONSTANTS.items():
