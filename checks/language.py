@@ -230,6 +230,8 @@ class Checker:
             self.tell("L7", file, line, "a sign that is not let")
         if isinstance(node, ast.FunctionDef):
             self.check_function(file, node)
+            self.check_generator(file, node)
+            self.check_sets(file, node)
         if isinstance(node, ast.ClassDef):
             self.check_class(file, node)
         if isinstance(node, ast.Call):
@@ -274,6 +276,45 @@ class Checker:
                    and any(isinstance(decorator, ast.Attribute) for decorator in inner.decorator_list)]
         if len(names) - len(setters) > len(set(names)):
             self.tell("L18", file, node.lineno, "a method that is defined twice")
+        for inner in ast.walk(node):
+            if isinstance(inner, ast.Attribute) and isinstance(inner.ctx, ast.Store) \
+                    and isinstance(inner.value, ast.Name) and inner.value.id == "self" and inner.attr in names:
+                self.tell("L18", file, inner.lineno, f"{inner.attr} is a method and an attribute")
+
+    def check_generator(self, file, node):
+        """L23: where a yield may stand, and how a generator may be called."""
+        inner = own_nodes(node)
+        yields = [one for one in inner if isinstance(one, (ast.Yield, ast.YieldFrom))]
+        if not yields:
+            return
+        statements = [one.value for one in inner if isinstance(one, ast.Expr)]
+        barred = [part for one in inner if isinstance(one, (ast.Try, ast.With)) for part in ast.walk(one)]
+        for one in yields:
+            if not any(one is other for other in statements) or any(one is other for other in barred):
+                self.tell("L23", file, one.lineno, "a yield that may not stand here")
+        if node.decorator_list or node.name.startswith("__") or node.name in METHODS_OF_BUILTINS \
+                or any(isinstance(one, ast.Return) and one.value is not None for one in inner):
+            self.tell("L23", file, node.lineno, "a generator that is not let")
+        named = [one for tree in self.trees.values() for one in ast.walk(tree)
+                 if isinstance(one, ast.FunctionDef) and one.name == node.name]
+        if len(named) > 1:
+            self.tell("L23", file, node.lineno, "another function has this generator's name")
+
+    def check_sets(self, file, node):
+        """L24: what is done with a set that a function stores."""
+        inner = own_nodes(node)
+        stored = {one.targets[0].id for one in inner if isinstance(one, ast.Assign) and is_set(one.value)
+                  and isinstance(one.targets[0], ast.Name)}
+        for one in inner:
+            if isinstance(one, (ast.For, ast.comprehension)):
+                if is_set(one.iter) or isinstance(one.iter, ast.Name) and one.iter.id in stored:
+                    self.tell("L24", file, one.iter.lineno, "a set that is iterated")
+            if isinstance(one, ast.Return) and one.value is not None:
+                if is_set(one.value) or isinstance(one.value, ast.Name) and one.value.id in stored:
+                    self.tell("L24", file, one.lineno, "a set that is returned")
+            if isinstance(one, ast.Attribute) and isinstance(one.value, ast.Name) and one.value.id in stored \
+                    and (one.attr not in ("add", "discard") or one.attr in self.methods):
+                self.tell("L24", file, one.lineno, f"the method {one.attr} of a set")
 
     def check_call(self, file, node):
         keywords = {keyword.arg for keyword in node.keywords}
@@ -305,6 +346,22 @@ class Checker:
                 self.tell("L27", file, node.lineno, "a string that is not let")
             if any(sign not in "\n\t" and not " " <= sign <= "~" for sign in text):
                 self.tell("L27", file, node.lineno, "an escape that is not let")
+
+
+def own_nodes(function):
+    """The nodes of a function without those of the functions nested in it."""
+    found, waiting = [], list(function.body)
+    while waiting:
+        node = waiting.pop()
+        found.append(node)
+        if not isinstance(node, (ast.FunctionDef, ast.Lambda, ast.ClassDef)):
+            waiting.extend(ast.iter_child_nodes(node))
+    return found
+
+
+def is_set(node):
+    called = isinstance(node, ast.Call) and isinstance(node.func, ast.Name) and node.func.id in ("set", "frozenset")
+    return called or isinstance(node, (ast.Set, ast.SetComp))
 
 
 def is_constant(node, values):

@@ -16,7 +16,7 @@ def is_sequence(thing, low=0, high=None):
 
 
 def is_couple(thing):
-    return is_sequence(thing, 2, 2)
+    return isinstance(thing, (list, tuple)) and len(thing) == 2
 
 
 def as_tuples(thing):

@@ -7,6 +7,9 @@ import unittest
 class Other:
     """A thing of no kind that the program knows."""
 
+    def __repr__(self):
+        return "Other()"
+
 
 # Things that are no list, no tuple, no string and no integer, or are one of these in the wrong place.
 NO_SEQUENCES = (None, True, 7, "ab", "", {1: 2, 3: 4}, {1, 2}, range(2), b"ab", 1.5, Other())

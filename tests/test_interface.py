@@ -36,13 +36,40 @@ FUNCTIONS = {
         "stretch_net": "(net_row, number, size)", "first_apart": "(net_row, size=1)",
     },
     "rowtext": {"row_text": "(net_row)", "read_row": "(text)"},
+    "histories": {"check_starts": "(starts)"},
+    "views": {
+        "view_of": "(history, house, level=None)", "part_of": "(view, level, node)", "earlier_view": "(view, level)",
+        "find_part": "(view, part)", "seen_classes": "(history, house, level)",
+        "unseen_houses": "(history, house, level, below)",
+    },
+    "joining": {"joined_view": "(own, heard, hearing='sums')", "dropped_view": "(view)"},
+    "letters": {
+        "letter_of": "(view, facts)", "check_letter": "(letter)", "letter_text": "(letter)", "read_letter": "(text)",
+    },
+    "stretches": {"stretched": "(nets, size)", "fitting_sizes": "(nets)"},
 }
 CLASSES = {
     "facts": {"Facts": ("(most=None, lamps=1, words=1, hearing='sums', stretch=1)", {})},
     "nets": {"Net": ("(houses, links)", {"heard_by": "(self, house)", "strength_of": "(self, one, other)"})},
     "joined": {"Joining": ("(steps)", {}), "Cut": ("(houses)", {})},
     "netrows": {"NetRow": ("(nets, plan)", {"net_at": "(self, number)", "nets_to": "(self, many)", "cycle": "(self)"})},
+    "histories": {
+        "HouseClass": ("(start, parent, heard, houses)", {}),
+        "History": ("(starts, hearing='sums')", {
+            "add": "(self, net)", "classes": "(self, level)", "class_of": "(self, house, level)",
+            "children": "(self, level, number)", "still": "(self, level)", "branching": "(self)",
+            "parted_at": "(self, house, other)", "flow": "(self, level, number, other)",
+        }),
+    },
+    "views": {
+        "View": ("(levels)", {"path": "(self)", "start_of": "(self, level, node)", "children": "(self, level, node)"}),
+    },
+    "houses": {
+        "House": ("(start, facts)", {"letter": "(self)", "hear": "(self, letters)", "kept": "(self)"}),
+    },
 }
+# Classes for which no point names an ==.
+WITHOUT_EQUALITY = ("History",)
 CONSTANTS = {"strengths": {"NONE": (0, 1)}, "sayings": {"HEADS": -1}, "nets": {"MOST_HOUSES": 12}}
 
 
@@ -68,12 +95,17 @@ class InterfaceTest(unittest.TestCase):
                     self.assertTrue(inspect.isclass(found))
                     self.assertEqual(found.__module__, "headsheard." + module)
                     self.assertEqual(str(inspect.signature(found)), signature)
-                    self.assertIn("__eq__", vars(found))
+                    self.assertEqual("__eq__" in vars(found), name not in WITHOUT_EQUALITY)
                     for method, told in methods.items():
                         self.assertEqual(str(inspect.signature(vars(found)[method])), told)
 
     def test_length_is_a_property_of_the_class_itself(self):
         self.assertIsInstance(vars(module_of("netrows").NetRow)["length"], property)
+
+    def test_taken_up_is_a_class_method_of_the_class_itself(self):
+        found = vars(module_of("houses").House)["taken_up"]
+        self.assertIsInstance(found, classmethod)
+        self.assertEqual(str(inspect.signature(found.__func__)), "(cls, data)")
 
     def test_constants(self):
         for module, constants in CONSTANTS.items():

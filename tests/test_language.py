@@ -99,6 +99,25 @@ class LanguageTest(unittest.TestCase):
         self.assert_breaks("L25", "def f(x):\n    return x.encode()")
         self.assert_breaks("L27", "def f(x):\n    return 2 ** x", "X = 10 ** 65")
 
+    def test_attributes_and_methods(self):
+        self.assert_breaks("L18", "class C:\n    def __init__(self):\n        self.f = 1\n\n    def f(self):\n        pass")
+        self.assert_keeps("class C:\n    def __init__(self):\n        self.f = 1\n\n    def g(self):\n        pass")
+
+    def test_generators(self):
+        self.assert_keeps("def f(x):\n    for y in x:\n        yield y", "def f(x):\n    yield from x\n    return")
+        self.assert_breaks("L23", "def f(x):\n    y = yield x", "def f(x):\n    yield x\n    return 1",
+                           "def f(x):\n    try:\n        yield x\n    except KeyError:\n        pass",
+                           "def split(x):\n    yield x", "class C:\n    @classmethod\n    def f(cls):\n        yield 1",
+                           "def f(x):\n    yield x\nclass C:\n    def f(self):\n        pass")
+
+    def test_sets(self):
+        self.assert_keeps("def f(x):\n    return sorted(set(x))", "def f(x):\n    y = set(x)\n    return len(y)",
+                          "def f(x):\n    y = {z for z in x}\n    return x in y")
+        self.assert_breaks("L24", "def f(x):\n    return [y for y in set(x)]", "def f(x):\n    return set(x)",
+                           "def f(x):\n    y = {z for z in x}\n    for z in y:\n        pass",
+                           "def f(x):\n    y = set(x)\n    return y", "def f(x):\n    y = set(x)\n    y.pop()",
+                           "def f(x):\n    y = set()\n    y.add(x)\nclass C:\n    def add(self):\n        pass")
+
     def test_errors(self):
         own = "class Bad(ValueError):\n    pass\n\n\n"
         self.assert_breaks("L19", own + "def f():\n    try:\n        pass\n    except ValueError:\n        pass",
