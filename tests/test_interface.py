@@ -47,6 +47,25 @@ FUNCTIONS = {
         "letter_of": "(view, facts)", "check_letter": "(letter)", "letter_text": "(letter)", "read_letter": "(text)",
     },
     "stretches": {"stretched": "(nets, size)", "fitting_sizes": "(nets)"},
+    "runs": {
+        "same_for": "(run, house, other, other_house)", "first_unlike_level": "(run, house, other, other_house)",
+        "history_of": "(run)", "alike_lots": "(run)", "walk_run": "(run, many)", "stretch_run": "(run)",
+    },
+    "stilllevels": {
+        "still_fault": "(view, level)", "least_numbers": "(view, level)", "still_numbers": "(view, level, lamps=1)",
+        "still_levels": "(view, lamps=1)", "descendants_of": "(view, level, node, later)",
+        "counts_at": "(view, level, numbers)", "numbers_agree": "(view, level, numbers, later, others)",
+    },
+    "guesses": {
+        "first_still": "(view, lamps=1)", "guess_counts": "(view, lamps=1)", "find_shares": "(view)",
+        "seen_starts": "(view)", "surely_from": "(houses, starts=2)", "words_from": "(houses)",
+    },
+    "shortpapers": {
+        "find_short": "(view)", "first_short": "(view)", "find_short_for": "(view, facts)",
+        "short_fault": "(view, paper)", "find_event": "(view, level, numbers, row, later)",
+        "events_of": "(view, paper, rows)",
+    },
+    "stopping": {"latest_round": "(houses)"},
 }
 CLASSES = {
     "facts": {"Facts": ("(most=None, lamps=1, words=1, hearing='sums', stretch=1)", {})},
@@ -67,9 +86,16 @@ CLASSES = {
     "houses": {
         "House": ("(start, facts)", {"letter": "(self)", "hear": "(self, letters)", "kept": "(self)"}),
     },
+    "runs": {
+        "Run": ("(nets, starts, facts)", {"step": "(self)", "view_at": "(self, house)", "house_at": "(self, house)"}),
+    },
+    "shortpapers": {
+        "ShortPaper": ("(found, levels, numbers, houses, counts)", {}), "ShortFault": ("(what, level)", {}),
+    },
+    "stopping": {"Stopper": ("()", {"look": "(self, view)"})},
 }
 # Classes for which no point names an ==.
-WITHOUT_EQUALITY = ("History",)
+WITHOUT_EQUALITY = ("History", "Run", "Stopper")
 CONSTANTS = {"strengths": {"NONE": (0, 1)}, "sayings": {"HEADS": -1}, "nets": {"MOST_HOUSES": 12}}
 
 
