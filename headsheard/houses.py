@@ -6,16 +6,21 @@ from headsheard.facts import facts_of
 from headsheard.joining import joined_view
 from headsheard.letters import check_letter, letter_of, starts_fit
 from headsheard.plain import is_couple, is_sequence
-from headsheard.strengths import NONE, check_strength, plus
+from headsheard.strengths import check_strength, plus
 from headsheard.views import View, trusted_view
 
 
 def _gathered(heard, hearing):
     """The couples (levels, strength) of the unlike ones among those heard, ascending."""
-    sums = {}
-    for levels, strength in heard:
-        sums[levels] = (1, 1) if hearing == "which" else plus(sums.get(levels, NONE), strength)
-    return tuple([(levels, sums[levels]) for levels in sorted(sums)])
+    gathered = []
+    for levels, strength in sorted(heard):
+        if hearing == "which":
+            strength = (1, 1)
+        if not gathered or gathered[-1][0] != levels:
+            gathered.append((levels, strength))
+        elif hearing != "which":
+            gathered[-1] = (levels, plus(gathered[-1][1], strength))
+    return tuple(gathered)
 
 
 class House:

@@ -202,9 +202,7 @@ def find_part(view, part):
         return None
     places = [_place_in(start, view.levels[0]) for start in part.levels[0]]
     for level, nodes in zip(view.levels[1:], part.levels[1:]):
-        if None in places:
-            return None
-        # What ascends in the part ascends in the view, too.
+        # What ascends in the part ascends in the view, too; what leads to a node without a place has none itself.
         places = [_place_in(node, level) for node in moved_nodes(nodes, places)]
     return places[0]
 

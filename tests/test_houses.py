@@ -374,6 +374,12 @@ class TakenUpTest(HeardCase):
         self.assert_raises(WrongLetter, ("waiting",), House.taken_up, self.with_entry(2, 0))
         self.assert_raises(WrongLetter, ("amid",), House.taken_up, self.data[:2] + (None, None))
         one, other = self.waiting
+        self.assert_raises(WrongLetter, ("waiting",), House.taken_up, self.data[:2] + (0, [one]))
+        self.assert_raises(WrongLetter, ("waiting",), House.taken_up, self.data[:2] + (0, [None]))
+        self.assertEqual(House.taken_up(self.data[:2] + (1, [one])).waiting, (one,))
+        between = ((((0, 0), (0, 1)), ((0, ((1, ONE),)),)), ONE)
+        self.assertEqual(House.taken_up(self.with_entry(3, (one, between, other))).waiting, (one, between, other))
+        self.assert_raises(WrongLetter, ("waiting",), House.taken_up, self.with_entry(3, (one, other, between)))
         for thing in NO_SEQUENCES + ((), one[:1], one + (1,)):
             self.assert_raises(WrongLetter, ("waiting",), House.taken_up, self.with_entry(3, [one, thing]))
         for waiting in ((other, one), (one, one), (one, (one[0], ONE))):

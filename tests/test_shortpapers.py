@@ -181,6 +181,7 @@ class ShortFaultTest(HeardCase):
         for numbers in ((), ((1, 1),), ((1, 1),) * 4):
             self.assert_fault("levels", None, numbers=numbers)
         self.assert_fault("levels", None, found=0, levels=(0,), numbers=((1,),))
+        self.assert_fault("levels", None, levels=(), numbers=())
         self.assert_fault("levels", None, found=3, houses=7)
 
     def test_numbers(self):
