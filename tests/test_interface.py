@@ -66,6 +66,20 @@ FUNCTIONS = {
         "events_of": "(view, paper, rows)",
     },
     "stopping": {"latest_round": "(houses)"},
+    "steps": {
+        "step_fault": "(view, level, row, above, heads)", "step_rows": "(view, level, above, heads)",
+    },
+    "worlds": {
+        "start_counts": "(view, row, facts, heads)", "rows_at": "(view, facts, heads)", "counts_of": "(view, facts)",
+        "world_with": "(view, facts, counts)", "world_fault": "(view, facts, world)",
+        "hidden_starts": "(view, world)",
+    },
+    "longpapers": {"long_fault": "(view, facts, saying, paper)"},
+    "sure": {
+        "find_sure": "(view, facts, saying)", "first_sure": "(views, facts, saying)", "sure_counts": "(view, facts)",
+        "heads_left": "(view, facts)",
+    },
+    "stubs": {"stub_links": "(ones, others)", "echo_links": "(stubs)"},
 }
 CLASSES = {
     "facts": {"Facts": ("(most=None, lamps=1, words=1, hearing='sums', stretch=1)", {})},
@@ -93,6 +107,8 @@ CLASSES = {
         "ShortPaper": ("(found, levels, numbers, houses, counts)", {}), "ShortFault": ("(what, level)", {}),
     },
     "stopping": {"Stopper": ("()", {"look": "(self, view)"})},
+    "worlds": {"World": ("(rows, counts)", {})},
+    "longpapers": {"LongPaper": ("(most, lists)", {})},
 }
 # Classes for which no point names an ==.
 WITHOUT_EQUALITY = ("History", "Run", "Stopper")
