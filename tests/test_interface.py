@@ -80,6 +80,28 @@ FUNCTIONS = {
         "heads_left": "(view, facts)",
     },
     "stubs": {"stub_links": "(ones, others)", "echo_links": "(stubs)"},
+    "foils": {
+        "seats_of": "(view, world)", "round_net": "(view, level, seats)", "foil_data": "(foil)",
+        "foil_of": "(view, facts, world)", "foil_fault": "(view, facts, saying, foil)",
+        "find_foil": "(view, facts, saying)", "world_in": "(view, foil)",
+    },
+    "tellers": {
+        "first_lie": "(teller, facts, views)", "lie_fault": "(teller, facts, lie)",
+        "earliest_teller": "(facts, views, saying)", "run_views": "(run)",
+    },
+    "twins": {
+        "share_twins": "(counts, others)", "multiplied": "(counts, times)", "set_twins": "(counts, others)",
+        "alike_until": "(twins, hearing)", "twins_fault": "(twins, hearing, rounds)",
+        "twin_lie": "(teller, twins, hearing, rounds)",
+    },
+    "needs": {
+        "least_shares": "(numbers)", "find_needs": "(saying, words, most)",
+        "couple_fault": "(saying, words, most, need, couple)", "answer_question": "(question, counts)",
+        "saying_of": "(question, worth, words)",
+    },
+    "stories": {
+        "print_deeds": "(deeds)", "read_deeds": "(text)", "put_away": "(desk)", "taken_up": "(text)",
+    },
 }
 CLASSES = {
     "facts": {"Facts": ("(most=None, lamps=1, words=1, hearing='sums', stretch=1)", {})},
@@ -109,6 +131,18 @@ CLASSES = {
     "stopping": {"Stopper": ("()", {"look": "(self, view)"})},
     "worlds": {"World": ("(rows, counts)", {})},
     "longpapers": {"LongPaper": ("(most, lists)", {})},
+    "foils": {"Foil": ("(starts, nets, house)", {})},
+    "tellers": {
+        "Teller": ("(words, table)", {"said": "(self, view)", "__len__": "(self)"}), "Lie": ("(at, saying, foil)", {}),
+    },
+    "twins": {"Side": ("(starts, net)", {}), "Twins": ("(one, other)", {})},
+    "needs": {"Needs": ("(need, couple)", {})},
+    "desk": {
+        "Trial": ("(tolds, refused)", {}),
+        "Desk": ("(starts, words=1, most=None)", {
+            "do_deed": "(self, deed)", "trial_deeds": "(self, deeds)", "__len__": "(self)", "__iter__": "(self)",
+        }),
+    },
 }
 # Classes for which no point names an ==.
 WITHOUT_EQUALITY = ("History", "Run", "Stopper")
