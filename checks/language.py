@@ -12,6 +12,8 @@ import re
 import sys
 import tokenize
 
+from flow import faults_in
+
 MOST_FUNCTION_LINES = 40
 MOST_FILE_LINES = 399
 MOST_LINE_SIGNS = 120
@@ -83,6 +85,8 @@ class Checker:
             for node in ast.walk(tree):
                 self.check_node(file, node)
             self.check_strings(file, tree)
+            for line, rule, what in faults_in(tree, list(self.trees.values())):
+                self.tell(rule, file, line, what)
         self.check_import_circles()
         return sorted(self.faults, key=lambda fault: (fault[0], fault[1], fault[2]))
 
@@ -215,10 +219,14 @@ class Checker:
                         self.tell("L8", file, line, f"the name {name}")
                 elif name != "_" and not PLAIN_NAME.fullmatch(name):
                     self.tell("L12", file, line, f"the name {name}")
-                if is_variable and (name.startswith(NAME_BEGINNINGS_NEVER) or NAMES_WITH_TAILS_NEVER.fullmatch(name)):
+                if name.startswith(NAME_BEGINNINGS_NEVER) or NAMES_WITH_TAILS_NEVER.fullmatch(name):
                     self.tell("L12", file, line, f"the name {name}")
             if isinstance(node, ast.Name) and node.id == "_" and isinstance(node.ctx, ast.Load):
                 self.tell("L12", file, node.lineno, "_ is read")
+            if isinstance(node, ast.ClassDef):
+                for method in node.body:
+                    if isinstance(method, ast.FunctionDef) and method.name in NAMES_NOT_OF_VARIABLES:
+                        self.tell("L17", file, method.lineno, f"the method {method.name}")
             if isinstance(node, ast.ClassDef) and node.name.startswith("_"):
                 self.tell("L12", file, node.lineno, "the name of a class begins with _")
 

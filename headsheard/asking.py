@@ -1,6 +1,6 @@
 """What a house answers to the deeds that ask."""
 
-from headsheard.errors import NeedsLamp, NeedsMost
+from headsheard.errors import NeedsLamp
 from headsheard.foils import find_foil
 from headsheard.guesses import find_shares, guess_counts
 from headsheard.needs import answer_question
@@ -22,17 +22,11 @@ def asked(view, facts, deed):
         if facts.lamps != 1:
             raise NeedsLamp()
         return find_short(view)
+    # Without a most, whatever asks for worlds raises NeedsMost.
     if kind == "answer":
-        _check_most(facts)
         return _sure_answer(view, facts, deed[2])
     saying = check_saying(facts.words, deed[2])
-    _check_most(facts)
     return find_foil(view, facts, saying) if kind == "foil" else _told_of(view, facts, saying)
-
-
-def _check_most(facts):
-    if facts.most is None:
-        raise NeedsMost()
 
 
 def guess_of(view, facts):

@@ -2,7 +2,7 @@
 
 from headsheard.canon import is_whole
 from headsheard.errors import BadDeed
-from headsheard.plain import as_tuples, is_couple, is_integer, is_sequence
+from headsheard.plain import is_couple, is_integer, is_sequence
 
 MOST_ROUNDS = 36
 # How many entries a deed has that begins with the word.
@@ -17,8 +17,8 @@ WITHOUT_HOUSE = ("net", "rounds", "back", "most")
 PLAIN_QUESTIONS = ("heads", "mean", "most")
 
 
-def checked_deed(words, deed):
-    """The deed as tuples through and through; BadDeed if it is of no shape that a deed has."""
+def check_deed(words, deed):
+    """BadDeed unless the deed is of a shape that a deed has."""
     if not is_sequence(deed, 1) or not isinstance(deed[0], str) or ENTRIES.get(deed[0]) != len(deed):
         raise BadDeed()
     kind = deed[0]
@@ -30,7 +30,6 @@ def checked_deed(words, deed):
         raise BadDeed()
     if kind == "answer" and not _is_question(words, deed[2]):
         raise BadDeed()
-    return as_tuples(deed)
 
 
 def has_house(deed):
@@ -39,8 +38,8 @@ def has_house(deed):
 
 
 def _is_question(words, thing):
-    if not is_sequence(thing, 1) or not isinstance(thing[0], str):
+    if not is_sequence(thing, 1, 2):
         return False
     if len(thing) == 1:
         return thing[0] in PLAIN_QUESTIONS
-    return thing[0] == "share" and len(thing) == 2 and is_whole(thing[1], 0, words - 1)
+    return thing[0] == "share" and is_whole(thing[1], 0, words - 1)

@@ -3,13 +3,14 @@
 from headsheard.asking import asked, guess_of
 from headsheard.canon import counts_of_starts, is_whole, lit_of
 from headsheard.datatext import data_text, read_data
-from headsheard.deeds import FOR_ALL, MOST_ROUNDS, checked_deed, has_house
+from headsheard.deeds import FOR_ALL, MOST_ROUNDS, check_deed, has_house
 from headsheard.errors import Away, BadFacts, FullDesk, HeadError, NoHouse, NoNet, NotAway, NotJoined, WrongNet
 from headsheard.facts import MOST_TOLD, Facts, fits_facts
 from headsheard.histories import check_starts
 from headsheard.houses import House
 from headsheard.joined import is_joined
 from headsheard.nets import Net
+from headsheard.plain import as_tuples
 from headsheard.rowtext import read_row
 
 
@@ -61,10 +62,10 @@ class Desk:
 
     def do_deed(self, deed):
         """Do a deed; what it tells."""
-        done = checked_deed(self.words, deed)
-        self._check_house(done)
-        told = self._told(done)
-        self.log = self.log + ((done, told),)
+        check_deed(self.words, deed)
+        self._check_house(deed)
+        told = self._told(deed)
+        self.log = self.log + ((as_tuples(deed), told),)
         return told
 
     def _check_house(self, deed):
@@ -85,9 +86,9 @@ class Desk:
         """Do what the deed asks for."""
         kind = deed[0]
         if kind == "net":
-            return self._lay_net(deed[1])
+            return self._next_net(deed[1])
         if kind == "rounds":
-            return self._lay_rounds(deed[1], deed[2])
+            return self._next_rounds(deed[1], deed[2])
         if kind == "back":
             return self._take_back()
         if kind == "lamp":
@@ -100,22 +101,22 @@ class Desk:
             return self._wake(deed[1])
         return asked(self._lot[deed[1]].view, self._facts, deed)
 
-    def _lay_net(self, told):
+    def _next_net(self, told):
         houses, links = told
         net = Net(houses, links)
         self._check_size(net.houses)
-        return self._lay([net])
+        return self._add_nets([net])
 
-    def _lay_rounds(self, text, many):
+    def _next_rounds(self, text, many):
         net_row = read_row(text)
         self._check_size(net_row.houses)
-        return self._lay(list(net_row.nets_to(many)))
+        return self._add_nets(list(net_row.nets_to(many)))
 
     def _check_size(self, houses):
         if houses != len(self.starts):
             raise WrongNet(houses)
 
-    def _lay(self, nets):
+    def _add_nets(self, nets):
         """Lay nets as the next rounds; the guesses that are new by this."""
         if len(self.course) + len(nets) > MOST_ROUNDS:
             raise FullDesk()

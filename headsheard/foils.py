@@ -33,7 +33,7 @@ class Foil:
 
 def seats_of(view, world):
     """For each level the node at which each house of a world sits, or None."""
-    seats = [_filled(world.rows[0], range(len(world.rows[0])), world.heads)]
+    seats = [_filled(world.rows[0], list(range(len(world.rows[0]))), world.heads)]
     for level in range(view.round):
         later = [None] * world.heads
         for node in range(len(view.levels[level])):
@@ -59,32 +59,31 @@ class FoilRound:
     """What the houses have to hear in one round, given their seats ahead of it and behind it."""
 
     def __init__(self, view, level, seats):
-        self.nodes = range(len(view.levels[level]))
+        self.nodes = list(range(len(view.levels[level])))
         self.later = seats[level + 1]
         self.houses = [_sitting(seats[level], node) for node in self.nodes]
         self.heard = [dict(heard) for _, heard in view.levels[level + 1]]
         self.losing = [[house for house in houses if self.later[house] is None] for houses in self.houses]
 
-    def told(self, house, other):
+    def asked_of(self, house, other):
         """What a house with a seat behind the round has to hear of the houses at a node."""
         return self.heard[self.later[house]].get(other, NONE)
 
-    def sum_told(self, node, other):
+    def sum_asked(self, node, other):
         """What the houses at a node that keep a seat have to hear of the houses at another one, all together."""
-        return total([self.told(house, other) for house in self.houses[node] if self.later[house] is not None])
+        return total([self.asked_of(house, other) for house in self.houses[node] if self.later[house] is not None])
 
-    def sum_between(self, node, other):
-        """What the houses at each of two nodes hear of those at the other one, all together."""
-        one, two = self.sum_told(node, other), self.sum_told(other, node)
-        if not self.losing[node]:
-            return one
-        return plus(greatest([one, two]), ONE) if self.losing[other] else two
+    def share_of_lack(self, node, other):
+        """What each house at a node that loses its seat hears of the houses at another one."""
+        asked, back = self.sum_asked(node, other), self.sum_asked(other, node)
+        # Where all houses at the other node keep their seats, what they have to hear is all that there is.
+        whole = plus(greatest([asked, back]), ONE) if self.losing[other] else back
+        return times(minus(whole, asked), lowest(1, len(self.losing[node])))
 
     def stubs(self, node, other):
         """What each house at a node hears of the houses at another one."""
-        lack = minus(self.sum_between(node, other), self.sum_told(node, other))
-        share = times(lack, lowest(1, max(1, len(self.losing[node]))))
-        return [share if self.later[house] is None else self.told(house, other) for house in self.houses[node]]
+        share = self.share_of_lack(node, other) if self.losing[node] else NONE
+        return [share if self.later[house] is None else self.asked_of(house, other) for house in self.houses[node]]
 
     def links_between(self, node, other):
         """The links between the houses at two nodes."""
@@ -93,7 +92,7 @@ class FoilRound:
 
     def links_within(self, node):
         """The links and echoes of the houses at one node."""
-        stubs = [ONE if self.later[house] is None else self.told(house, node) for house in self.houses[node]]
+        stubs = [ONE if self.later[house] is None else self.asked_of(house, node) for house in self.houses[node]]
         return [(self.houses[node][i], self.houses[node][j], strength) for i, j, strength in echo_links(stubs)]
 
     def links_behind(self):
@@ -102,7 +101,7 @@ class FoilRound:
         loud = plus(greatest([strength for heard in self.heard for strength in list(heard.values())]), ONE)
         return [(one, other, loud if one == other else ONE) for one in unseated for other in unseated if one <= other]
 
-    def links(self):
+    def all_links(self):
         links = self.links_behind()
         for node in self.nodes:
             links.extend(self.links_within(node))
@@ -115,7 +114,7 @@ class FoilRound:
 def round_net(view, level, seats):
     """A net for the round behind a level in which the seated houses hear what the view tells."""
     strengths = {}
-    for one, other, strength in FoilRound(view, level, seats).links():
+    for one, other, strength in FoilRound(view, level, seats).all_links():
         pair = (min(one, other), max(one, other))
         strengths[pair] = plus(strengths.get(pair, NONE), strength)
     return Net(len(seats[level]), [(one, other, strengths[(one, other)]) for one, other in strengths])

@@ -127,10 +127,11 @@ def taken_up(text):
 
 
 def _may_follow(desk, deed):
-    """Whether the deed may stand behind those that were done on the desk: nets first, then cuts, ascending."""
+    """Whether a deed is one by which a desk is kept, and no cut of a house below one that is away."""
     if deed[0] == "cut":
         return len(desk.away) == 0 or deed[1] > desk.away[-1]
-    return deed[0] == "net" and len(desk.away) == 0
+    # A net behind a cut is refused by the desk itself.
+    return deed[0] == "net"
 
 
 def _desk_of_line(line):

@@ -82,7 +82,7 @@ class Walk:
         kept = [tuple(lowest)]
         for rows_of in self.below:
             met = {row: True for row in kept[-1]}
-            kept.append(tuple([above for above in sorted(rows_of) if any([row in met for row in rows_of[above]])]))
+            kept.append(tuple([above for above in rows_of if any([row in met for row in rows_of[above]])]))
         return tuple(kept)
 
     def least_path(self, lowest):

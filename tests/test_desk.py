@@ -486,6 +486,20 @@ class RefusalsTest(HeardCase):
         desk.do_deed(("net", PAIR))
         self.assertTrue(desk == pair_desk(3))
 
+    def test_things_that_hold_themselves(self):
+        endless = []
+        endless.append(endless)
+        long = TWO
+        for _ in range(2000):
+            long = ("not", long)
+        desk = pair_desk(1)
+        for deed, error, told in ((endless, BadDeed, ()), (("ask", 0, endless), BadSaying, ("saying",)),
+                                  (("ask", 0, long), BadSaying, ("deep",)), (("net", endless), BadDeed, ()),
+                                  (("net", [2, endless]), BadNet, ("form", 0)), (("most", endless), BadFacts, ("most",)),
+                                  (("answer", 0, endless), BadDeed, ())):
+            self.assert_raises(error, told, desk.do_deed, deed)
+            self.assertEqual(desk.trial_deeds([deed]).refused, 0)
+
     def test_errors_of_nets_are_their_own(self):
         self.assertTrue(issubclass(BadStrength, HeadError))
         self.assert_raises(BadNet, ("strength", 0), pair_desk().do_deed, ("net", (2, ((0, 1, None),))))

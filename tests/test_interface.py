@@ -144,6 +144,8 @@ CLASSES = {
         }),
     },
 }
+RESULTS = ("Joining", "Cut", "HouseClass", "ShortPaper", "ShortFault", "World", "LongPaper", "Foil", "Lie", "Side", "Twins",
+           "Needs", "Trial")
 # Classes for which no point names an ==.
 WITHOUT_EQUALITY = ("History", "Run", "Stopper")
 CONSTANTS = {"strengths": {"NONE": (0, 1)}, "sayings": {"HEADS": -1}, "nets": {"MOST_HOUSES": 12}}
@@ -174,6 +176,20 @@ class InterfaceTest(unittest.TestCase):
                     self.assertEqual("__eq__" in vars(found), name not in WITHOUT_EQUALITY)
                     for method, told in methods.items():
                         self.assertEqual(str(inspect.signature(vars(found)[method])), told)
+
+    def test_results_of_unlike_classes_are_never_equal(self):
+        made = []
+        for module, classes in CLASSES.items():
+            for name in classes:
+                found = vars(module_of(module))[name]
+                many = len(inspect.signature(found).parameters)
+                if name in RESULTS:
+                    made.append(found(*[()] * many))
+                    self.assertTrue(made[-1] == found(*[()] * many))
+        self.assertEqual(len(made), len(RESULTS))
+        for one in made:
+            for other in made + [(), None]:
+                self.assertEqual(one == other, one is other)
 
     def test_length_is_a_property_of_the_class_itself(self):
         self.assertIsInstance(vars(module_of("netrows").NetRow)["length"], property)

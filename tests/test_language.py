@@ -71,7 +71,10 @@ class LanguageTest(unittest.TestCase):
         self.assert_breaks("L17", "def f(os):\n    pass", "def f(x):\n    x.law = 1", "def elements():\n    pass",
                            'X = "an enum"', "def f(typing):\n    pass", 'X = "dataclasses"')
         self.assert_breaks("L12", "def f(_pe_x):\n    pass", "class _C:\n    pass", "def f():\n    return [_ for _ in ()]",
-                           "# _WallAttr", "def f(x_, _1):\n    pass", "_outside = 1")
+                           "# _WallAttr", "def f(x_, _1):\n    pass", "_outside = 1",
+                           "class C:\n    def _lay_it(self):\n        pass", "def f(x):\n    x._law_x = 1",
+                           "def _stub_x():\n    pass", "def f(x):\n    x._cold_1 = 1")
+        self.assert_breaks("L17", "class C:\n    def vars(self):\n        pass", "class C:\n    def eval(self):\n        pass")
         self.assert_breaks("L8", "def f(__x):\n    pass", "class C:\n    def __hash__(self):\n        return 1")
         self.assert_keeps('"""enum"""\n# namedtuple', 'X = "a type"', "class C:\n    def hash(self):\n        pass",
                           "def f():\n    for _ in range(3):\n        pass")
@@ -109,6 +112,34 @@ class LanguageTest(unittest.TestCase):
                            "def f(x):\n    try:\n        yield x\n    except KeyError:\n        pass",
                            "def split(x):\n    yield x", "class C:\n    @classmethod\n    def f(cls):\n        yield 1",
                            "def f(x):\n    yield x\nclass C:\n    def f(self):\n        pass")
+
+    def test_what_is_iterated_at_once(self):
+        self.assert_keeps("def f(x):\n    return [y for y in range(x)]", "def f(x):\n    y = range(x)\n    return len(y)",
+                          "def f(x):\n    return tuple(zip(x, range(3)))", "def f(x):\n    return max(range(x))",
+                          "def f(x):\n    return list(reversed(range(x)))", "def f(x):\n    return len(x.items())",
+                          "def f(x):\n    for y, z in enumerate(x.values()):\n        pass")
+        self.assert_breaks("L23", "def f(x):\n    return range(x)", "def f(x):\n    return f(range(x))",
+                           "class C:\n    def __init__(self, x):\n        self.x = range(x)", "def f(x):\n    return [zip(x, x)]",
+                           "def f(x):\n    return x.keys()", "def f(x):\n    return len(zip(x))",
+                           "def f(x):\n    return sorted(x, key=range(3))")
+
+    def test_what_is_iterated_over_is_not_changed(self):
+        self.assert_keeps("def f(x):\n    for y in list(x):\n        x.append(y)",
+                          "def f(x, z):\n    for y in x:\n        z.append(y)")
+        self.assert_breaks("L23", "def f(x):\n    for y in x:\n        x.append(y)",
+                           "def f(x):\n    for y in x:\n        x[y] = 1", "def f(x):\n    for y in x.items():\n        del x[y]",
+                           "def f(x):\n    for y, z in enumerate(x.rows):\n        x.rows.pop()",
+                           "def f(x):\n    return [x.pop() for y in x]")
+
+    def test_classes_and_calls(self):
+        own = "class C:\n    def __init__(self, x, y=1):\n        self.x = x\n\n\n"
+        self.assert_keeps(own + "def f(x):\n    return C(x).x, isinstance(x, C), isinstance(x, (C, int))",
+                          own + "class D(C):\n    pass", own + "def f():\n    return C(1, y=2), C(x=1)")
+        self.assert_breaks("L18", own + "def f():\n    return C", own + "def f(x):\n    return f(C)",
+                           own + "def f(x):\n    return x.z", own + "def f(x):\n    return isinstance(C, x)",
+                           own + "class D:\n    def x(self):\n        pass")
+        self.assert_breaks("L22", own + "def f():\n    return C()", own + "def f():\n    return C(1, 2, 3)",
+                           own + "def f():\n    return C(1, z=2)", "def f(x):\n    return f(x, x)", "def f(x):\n    return f()")
 
     def test_sets(self):
         self.assert_keeps("def f(x):\n    return sorted(set(x))", "def f(x):\n    y = set(x)\n    return len(y)",

@@ -6,11 +6,14 @@ from fractions import Fraction
 from math import gcd
 
 from headsheard.canon import counts_of_starts
+from headsheard.guesses import find_shares, seen_starts
 from headsheard.needs import Needs, answer_question, couple_fault, find_needs, least_shares, saying_of
 from headsheard.sayings import check_saying, holds
 from headsheard.twins import alike_until, set_twins, share_twins
+from headsheard.views import view_of
 from helpers import NO_INTEGERS, NO_SEQUENCES, HeardCase
 from plain_worlds import some_saying, true_of
+from standings import joined_net, played
 
 TRUE = ("most", ((-1, -1),), 0)
 
@@ -148,6 +151,48 @@ def plain_which(saying):
     for numbers in all_numbers(4, 11):
         truths.setdefault(places_of(numbers), set()).add(is_true(saying, numbers))
     return all(len(lot) == 1 for lot in truths.values())
+
+
+class TellingRightlyTest(HeardCase):
+    """[15.1] Houses without a lamp."""
+
+    def test_what_needs_shares_is_told_by_houses_that_hear_sums(self):
+        source = random.Random(1515)
+        told = {"which": 0, "shares": 0}
+        for _ in range(40):
+            houses, words = source.randrange(1, 6), source.randrange(1, 4)
+            starts = [(0, source.randrange(words)) for _ in range(houses)]
+            history = played(starts, [joined_net(source, houses) for _ in range(2 * houses + 1)])
+            counts = counts_of_starts(starts)
+            sayings = [some_saying(source, words) for _ in range(12)]
+            sayings += [saying_of(("share", word), answer_question(("share", word), counts), words)
+                        for word in range(words)]
+            for saying in sayings:
+                need = find_needs(saying, words, 12).need
+                if need == "counts":
+                    continue
+                told[need] += 1
+                for house in range(houses):
+                    for level in range(max(1, 2 * houses - len(set(starts))), history.round + 1):
+                        shares = find_shares(view_of(history, house, level))
+                        self.assertEqual(holds(saying, shares), true_of(saying, counts))
+        self.assertGreater(min(told.values()), 30)
+
+    def test_what_needs_which_is_told_by_houses_that_hear_sets(self):
+        source = random.Random(1516)
+        told = 0
+        for _ in range(40):
+            houses, words = source.randrange(1, 7), source.randrange(1, 4)
+            starts = [(0, source.randrange(words)) for _ in range(houses)]
+            history = played(starts, [joined_net(source, houses) for _ in range(houses)], "which")
+            for saying in [some_saying(source, words) for _ in range(12)]:
+                if find_needs(saying, words, 12).need == "which":
+                    told += 1
+                    for house in range(houses):
+                        for level in range(houses - 1, history.round + 1):
+                            seen = tuple((start, 1) for start in seen_starts(view_of(history, house, level)))
+                            self.assertEqual(holds(saying, seen), true_of(saying, counts_of_starts(starts)))
+        self.assertGreater(told, 60)
 
 
 class CoupleFaultTest(HeardCase):

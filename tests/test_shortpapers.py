@@ -15,7 +15,8 @@ from helpers import NO_INTEGERS, HeardCase
 from made_views import ONE, chain
 from plain_levels import (
     any_views, children, crossing_rows, crossing_view, joined_runs, paper_over, plain_numbers, plain_short_fault,
-    right_papers, views_of_run, walk_paper)
+    right_papers, spun_view, views_of_run, walk_paper)
+from plain_worlds import plain_worlds
 
 
 def told_fault(view, paper):
@@ -353,6 +354,31 @@ class EventsTest(HeardCase):
                         empty += events.count(None)
                         self.assertLess(len([event for event in events if event is not None]), run.houses)
         self.assertTrue(empty > 100 and full > 20, (empty, full))
+
+    def test_events_of_papers_in_all_worlds(self):
+        source = random.Random(193)
+        told = {"empty": 0, "full": 0, "right": 0}
+        views = [spun_view(source, source.randrange(2, 5)) for _ in range(250)]
+        for run, rounds in joined_runs(194, 12, most=3, rounds=lambda houses: houses + 2):
+            views += [view for row in views_of_run(run, rounds) for view in row[:1]]
+        for view in views:
+            papers = list(self.papers(view))
+            if not papers or max(len(level) for level in view.levels) > 3:
+                continue
+            for heads, counts, rows in plain_worlds(view, Facts(5, 1, 4)):
+                for paper in papers:
+                    events = events_of(view, paper, rows)
+                    for level, numbers, event in zip(paper.levels, paper.numbers, events):
+                        self.assertIs(event is None, sum(rows[level + 1]) == heads)
+                        if event is None:
+                            self.assertEqual(numbers, rows[level])
+                        told["full" if event is not None else "empty"] += 1
+                    self.assertLess(len([event for event in events if event is not None]), paper.houses)
+                    # A right paper has some level without an event, so it tells the truth in each world.
+                    if plain_short_fault(view, paper) is None:
+                        self.assertEqual((paper.houses, paper.counts), (heads, counts))
+                        told["right"] += 1
+        self.assertTrue(min(told.values()) > 30, told)
 
     def papers(self, view):
         """Papers over rows of levels that agree, without a fault or with "few" alone."""

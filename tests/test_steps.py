@@ -151,6 +151,15 @@ class StepFaultTest(HeardCase):
         view = stepped(starts[:3], [(0, ((2, ONE),)), (1, ((2, ONE),)), (2, ((0, ONE), (1, ONE)))])
         self.assertIsNone(step_fault(view, 0, (1, 1, 1), (1, 1, 1), 3))
 
+    def test_the_least_node_of_pieces_that_grow(self):
+        # Nodes 0 and 2 are of one piece, node 1 is of another one.
+        view = stepped([(0, 0), (0, 1), (0, 2)], [(0, ((2, ONE),)), (1, ((1, ONE),)), (2, ((0, ONE),))])
+        self.assert_same(step_fault(view, 0, (1, 1, 1), (1, 1, 1), 3), ("apart", 1))
+        self.assert_same(step_fault(view, 0, (1, 1, 1), (1, 1, 1), 4), ("apart", 0))
+        self.assert_same(step_fault(view, 0, (1, 2, 1), (1, 1, 1), 4), ("apart", 0))
+        self.assert_same(step_fault(view, 0, (2, 1, 2), (1, 1, 1), 5), ("apart", 1))
+        self.assertIsNone(step_fault(view, 0, (2, 2, 2), (1, 1, 1), 6))
+
     def test_alone(self):
         view = stepped([(0, 0), (0, 1)], [(0, ((1, ONE),)), (1, ())])
         self.assert_same(step_fault(view, 0, (2, 2), (1, 1), 4), ("alone", 1))

@@ -12,7 +12,7 @@ from headsheard.nets import Net, path_net
 from headsheard.runs import Run, walk_run
 from headsheard.sure import find_sure
 from headsheard.tellers import Lie, Teller, earliest_teller, first_lie, lie_fault, run_views
-from headsheard.views import View, view_of
+from headsheard.views import View, earlier_view, view_of
 from helpers import NO_INTEGERS, NO_SEQUENCES, HeardCase
 from made_views import ONE
 from plain_worlds import small_run, some_saying, true_of
@@ -260,6 +260,13 @@ class EarliestTellerTest(HeardCase):
     def test_errors(self):
         for facts, error in ((Facts(None, hearing="which"), NeedsSums), (Facts(None), NeedsMost), (Facts(3, 0), NoWorld)):
             self.assert_raises(error, (), earliest_teller, facts, lamp_views(1), TRUE)
+
+    def test_a_view_whose_levels_are_no_data(self):
+        # No teller can speak of such a view.
+        great = View([[(0, 0)], [(0, ((0, (10 ** 400, 1)),))]])
+        teller = earliest_teller(Facts(2, 0), [great, earlier_view(great, 0)], TRUE)
+        self.assertTrue(teller == Teller(1, [("(((0 0)))", TRUE)]))
+        self.assertIsNone(first_lie(teller, Facts(2, 0), [great]))
 
     def test_a_saying_as_lists(self):
         views = lamp_views(2)

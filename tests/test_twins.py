@@ -185,7 +185,8 @@ class ShareTwinsTest(HeardCase):
         for counts, others, what in (
                 ((), EXAMPLE, "empty"), (EXAMPLE, (), "empty"), ((), (), "empty"), (thirteen, (), "empty"),
                 (thirteen, EXAMPLE, "many"), (EXAMPLE, thirteen, "many"), ((((1, 0), 7), ((1, 1), 6)), EXAMPLE, "many"),
-                ((((1, 0), 1),), (((1, 0), 2),), "lamps"), (EXAMPLE, (((0, 0), 1), ((1, 1), 2)), "lamps"),
+                ((((1, 0), 1),), (((1, 0), 2),), "lamps"), ((((1, 0), 1),), (((0, 0), 1),), "lamps"),
+                (EXAMPLE, (((0, 0), 2), ((1, 1), 1)), "lamps"), (EXAMPLE, (((0, 0), 1), ((1, 1), 2)), "lamps"),
                 (EXAMPLE, (((0, 0), 2), ((0, 1), 2)), "shares"), (EXAMPLE, (((0, 0), 1),), "shares"),
                 (EXAMPLE, (((0, 0), 1), ((0, 2), 2)), "shares")):
             self.assert_raises(BadTwins, (what,), share_twins, counts, others)
@@ -312,7 +313,7 @@ class ResultsTest(HeardCase):
         twins = Twins(one, other)
         self.assertIs(twins.one, one)
         self.assertTrue(twins == Twins(Side(one.starts, net), other))
-        for thing in (Twins(other, one), Twins(one, one), (one, other), one, None):
+        for thing in (Twins(other, one), Twins(one, one), Twins(other, other), (one, other), one, None):
             self.assertFalse(twins == thing)
 
     def test_nothing_is_changed(self):

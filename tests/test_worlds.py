@@ -152,6 +152,20 @@ class AllWorldsTest(HeardCase):
         self.assertEqual(world_with(view, Facts(3, 0, 2), (((0, 0), 2), ((0, 1), 1))).rows, ((2,), (1,)))
 
 
+    def test_the_least_row_of_a_level_need_not_stand_over_the_least_row_below(self):
+        three = (3, 1)
+        view = View([
+            [(0, 0), (0, 1), (1, 2)],
+            [(0, ((0, three), (1, three))), (1, ((0, three), (1, ONE))), (1, ((1, ONE), (2, ONE))), (2, ((1, ONE),))],
+            [(0, ((1, three), (2, ONE))), (1, ((0, three), (3, ONE))), (2, ((0, ONE),)), (3, ((1, ONE),))],
+            [(3, ((0, ONE), (1, (1, 2)), (2, ONE), (3, three)))]])
+        facts = Facts(6, 1, 3)
+        counts = (((0, 0), 2), ((0, 1), 3), ((1, 2), 1))
+        rows = [rows for _, told, rows in plain_worlds(view, facts) if told == counts]
+        self.assertEqual(min(rows), ((2, 3, 1), (2, 2, 1, 1), (1, 1, 1, 1), (1,)))
+        self.assert_same(world_with(view, facts, counts).told, (min(rows), counts))
+
+
 class EdgesTest(HeardCase):
     def test_round_0(self):
         view = View([[(0, 1)]])
@@ -214,6 +228,12 @@ class EdgesTest(HeardCase):
         self.assert_same(start_counts(EARLIER, [3, 2], facts, 4), ())
         self.assert_same(start_counts(EARLIER, (1, 2), facts, 4), ((((0, 0), 1), ((0, 1), 1), ((1, 0), 2)),))
         self.assert_same(start_counts(EARLIER, (1, 2), facts, 2), ())
+
+    def test_a_word_that_the_facts_do_not_know(self):
+        view = View([[(0, 0), (0, 2)], [(0, ((1, ONE),))]])
+        self.assert_same(start_counts(view, (1, 1), Facts(4, 0, 2), 2), ())
+        self.assert_same(counts_of(view, Facts(4, 0, 2)), ())
+        self.assert_same(start_counts(view, (1, 1), Facts(4, 0, 3), 2), ((((0, 0), 1), ((0, 2), 1)),))
 
     def test_level_0_is_ascending_by_starts_and_not_by_kinds_of_starts(self):
         view = View([[(0, 1), (1, 1)], [(0, ((1, ONE),))]])
