@@ -1,17 +1,103 @@
 """Desks: some houses, nets laid one behind another, and what the houses tell of it."""
 
-from headsheard.asking import asked, guess_of
 from headsheard.canon import counts_of_starts, is_whole, lit_of
 from headsheard.datatext import data_text, read_data
-from headsheard.deeds import FOR_ALL, MOST_ROUNDS, check_deed, has_house
-from headsheard.errors import Away, BadFacts, FullDesk, HeadError, NoHouse, NoNet, NotAway, NotJoined, WrongNet
+from headsheard.errors import (
+    Away, BadDeed, BadFacts, FullDesk, HeadError, NeedsLamp, NoHouse, NoNet, NotAway, NotJoined, WrongNet)
 from headsheard.facts import MOST_TOLD, Facts, fits_facts
+from headsheard.foils import find_foil
+from headsheard.guesses import find_shares, guess_counts
 from headsheard.histories import check_starts
 from headsheard.houses import House
 from headsheard.joined import is_joined
+from headsheard.needs import answer_question
 from headsheard.nets import Net
-from headsheard.plain import as_tuples
+from headsheard.plain import as_tuples, is_couple, is_integer, is_sequence
 from headsheard.rowtext import read_row
+from headsheard.sayings import check_saying
+from headsheard.shortpapers import find_short
+from headsheard.sure import first_sure
+from headsheard.views import earlier_view
+from headsheard.worlds import counts_of
+
+MOST_ROUNDS = 36
+# How many entries a deed has that begins with the word.
+ENTRIES = {
+    "net": 2, "rounds": 3, "back": 1, "lamp": 2, "most": 2, "cut": 2, "wake": 2,
+    "guess": 2, "shares": 2, "paper": 2, "ask": 3, "answer": 3, "foil": 3,
+}
+# The deeds for which no house may be away.
+FOR_ALL = ("net", "rounds", "back", "lamp", "most")
+# The deeds whose second entry is no house.
+WITHOUT_HOUSE = ("net", "rounds", "back", "most")
+PLAIN_QUESTIONS = ("heads", "mean", "most")
+
+
+def _check_shape(words, deed):
+    """BadDeed unless the deed is of a shape that a deed has."""
+    if not is_sequence(deed, 1) or not isinstance(deed[0], str) or ENTRIES.get(deed[0]) != len(deed):
+        raise BadDeed()
+    kind = deed[0]
+    if _has_house(deed) and not is_integer(deed[1]):
+        raise BadDeed()
+    if kind == "net" and not is_couple(deed[1]):
+        raise BadDeed()
+    if kind == "rounds" and not (isinstance(deed[1], str) and is_whole(deed[2], 1, MOST_ROUNDS)):
+        raise BadDeed()
+    if kind == "answer" and not _is_question(words, deed[2]):
+        raise BadDeed()
+
+
+def _has_house(deed):
+    """Whether the second entry of a deed is a house."""
+    return deed[0] not in WITHOUT_HOUSE
+
+
+def _is_question(words, thing):
+    if not is_sequence(thing, 1, 2):
+        return False
+    if len(thing) == 1:
+        return thing[0] in PLAIN_QUESTIONS
+    return thing[0] == "share" and is_whole(thing[1], 0, words - 1)
+
+
+def _asked(view, facts, deed):
+    """What a deed that asks the house with this view tells."""
+    kind = deed[0]
+    if kind == "guess":
+        return _guess_of(view, facts)
+    if kind == "shares":
+        return find_shares(view)
+    if kind == "paper":
+        if facts.lamps != 1:
+            raise NeedsLamp()
+        return find_short(view)
+    # Without a most, whatever asks for worlds raises NeedsMost.
+    if kind == "answer":
+        return _sure_answer(view, facts, deed[2])
+    saying = check_saying(facts.words, deed[2])
+    return find_foil(view, facts, saying) if kind == "foil" else _verdict(view, facts, saying)
+
+
+def _guess_of(view, facts):
+    """The counts that a house with this view guesses, or None."""
+    return None if facts.lamps == 0 else guess_counts(view, facts.lamps)
+
+
+def _verdict(view, facts, saying):
+    """Whether a saying is sure, or its opposite, and since when."""
+    for word, given in (("yes", saying), ("no", ("not", saying))):
+        # What is sure stays sure, so the earlier views need only be looked at if it is sure now.
+        if first_sure([view], facts, given) is not None:
+            views = [earlier_view(view, level) for level in range(view.round + 1)]
+            return (word, first_sure(views, facts, given))
+    return ("open", view.round)
+
+
+def _sure_answer(view, facts, question):
+    """The answer that the counts of all worlds give, or None."""
+    answers = [answer_question(question, counts) for counts in counts_of(view, facts)]
+    return answers[0] if all([answer == answers[0] for answer in answers]) else None
 
 
 def _facts_for(starts, words, most):
@@ -62,7 +148,7 @@ class Desk:
 
     def do_deed(self, deed):
         """Do a deed; what it tells."""
-        check_deed(self.words, deed)
+        _check_shape(self.words, deed)
         self._check_house(deed)
         told = self._told(deed)
         self.log = self.log + ((as_tuples(deed), told),)
@@ -71,7 +157,7 @@ class Desk:
     def _check_house(self, deed):
         """Raise what is wrong with the house of a deed, or with houses that are away."""
         kind = deed[0]
-        if has_house(deed) and not is_whole(deed[1], 0, len(self.starts) - 1):
+        if _has_house(deed) and not is_whole(deed[1], 0, len(self.starts) - 1):
             raise NoHouse(deed[1])
         if kind in FOR_ALL:
             if self.away:
@@ -99,7 +185,7 @@ class Desk:
             return self._cut(deed[1])
         if kind == "wake":
             return self._wake(deed[1])
-        return asked(self._lot[deed[1]].view, self._facts, deed)
+        return _asked(self._lot[deed[1]].view, self._facts, deed)
 
     def _next_net(self, told):
         houses, links = told
@@ -130,7 +216,7 @@ class Desk:
                       if guess is not None and guess != before[house]])
 
     def _guesses(self):
-        return [guess_of(house.view, self._facts) for house in self._lot]
+        return [_guess_of(house.view, self._facts) for house in self._lot]
 
     def _take_back(self):
         if not self.course:

@@ -2,8 +2,7 @@
 
 from headsheard.canon import MOST_WORDS
 from headsheard.datatext import data_text, read_data
-from headsheard.deeds import MOST_ROUNDS, PLAIN_QUESTIONS
-from headsheard.desk import Desk
+from headsheard.desk import MOST_ROUNDS, PLAIN_QUESTIONS, Desk
 from headsheard.errors import BadDeed, BadStory, HeadError
 from headsheard.facts import MOST_TOLD
 from headsheard.nets import MOST_HOUSES, Net
