@@ -1,16 +1,16 @@
 """Tellers: rules by which houses say sayings, and their lies."""
 
-from headsheard.canon import counts_of_starts, is_whole
+from headsheard.canon import MOST_WORDS, counts_of_starts, is_whole
 from headsheard.datatext import data_text
 from headsheard.errors import BadData, BadSaying, BadTeller
 from headsheard.foils import find_foil, form_fault, view_in
 from headsheard.plain import is_couple, is_sequence
 from headsheard.sayings import check_saying, holds
+from headsheard.sure import first_sure
 from headsheard.views import earlier_view
 
 MOST_ENTRIES = 1000
 MOST_ROUNDS = 36
-MOST_WORDS = 4
 
 
 def _checked_table(words, table):
@@ -111,7 +111,7 @@ def earliest_teller(facts, views, saying):
         if view.levels not in met:
             met[view.levels] = True
             text = text_of(view)
-            if find_foil(view, facts, saying) is None and text is not None:
+            if first_sure([view], facts, saying) is not None and text is not None:
                 sayings[text] = saying
     return Teller(facts.words, [(text, sayings[text]) for text in sayings])
 
